@@ -37,23 +37,24 @@ func Sees(a, b api.Clock) bool {
 	return true
 }
 
+// HasAuthor tells whether c has an entry of that author.
+func HasAuthor(c api.Clock, author int) bool {
+	return 0 <= author && author < len(c)
+}
+
 // Has tells whether c has that author, and saw seq or more of theirs.
 func Has(c api.Clock, author, seq int) bool {
-	return hasAuthor(c, author) && c[author] >= seq
+	return HasAuthor(c, author) && c[author] >= seq
 }
 
 // Tick has 1 more than c for that author, and is c's copy where c has not that author.
 func Tick(c api.Clock, author int) api.Clock {
 	out := make(api.Clock, len(c))
 	copy(out, c)
-	if hasAuthor(c, author) {
+	if HasAuthor(c, author) {
 		out[author]++
 	}
 	return out
-}
-
-func hasAuthor(c api.Clock, author int) bool {
-	return 0 <= author && author < len(c)
 }
 
 func longer(a, b api.Clock) int {
@@ -64,7 +65,7 @@ func longer(a, b api.Clock) int {
 // that clocks of different lengths can be held against each other as they are.
 func entries(c api.Clock) func(author int) int {
 	return func(author int) int {
-		if !hasAuthor(c, author) {
+		if !HasAuthor(c, author) {
 			return 0
 		}
 		return c[author]

@@ -169,6 +169,29 @@ func TestA1Has(t *testing.T) {
 	}
 }
 
+func TestA1HasAuthor(t *testing.T) {
+	for _, x := range []struct {
+		c      api.Clock
+		author int
+		want   bool
+	}{
+		{api.Clock{0, 0}, 0, true},
+		{api.Clock{0, 0}, 1, true},
+		{api.Clock{-1, -1}, 1, true},
+		{api.Clock{0, 0}, 2, false},
+		{api.Clock{0, 0}, -1, false},
+		{api.Clock{0, 0}, math.MaxInt, false},
+		{api.Clock{0, 0}, math.MinInt, false},
+		{api.Clock{0, 0}[:1], 1, false},
+		{api.Clock{}, 0, false},
+		{nil, 0, false},
+	} {
+		if got := HasAuthor(x.c, x.author); got != x.want {
+			t.Errorf("HasAuthor(%v, %d) = %v, not %v", x.c, x.author, got, x.want)
+		}
+	}
+}
+
 func TestA1Tick(t *testing.T) {
 	for _, x := range []struct {
 		name   string
