@@ -49,11 +49,17 @@ func Has(c api.Clock, author, seq int) bool {
 
 // Tick has 1 more than c for that author, and is c's copy where c has not that author.
 func Tick(c api.Clock, author int) api.Clock {
-	out := make(api.Clock, len(c))
-	copy(out, c)
+	out := Copy(c)
 	if HasAuthor(c, author) {
 		out[author]++
 	}
+	return out
+}
+
+// Copy is c in new memory.
+func Copy(c api.Clock) api.Clock {
+	out := make(api.Clock, len(c))
+	copy(out, c)
 	return out
 }
 

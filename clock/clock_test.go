@@ -220,6 +220,14 @@ func TestA1Tick(t *testing.T) {
 	}
 }
 
+func TestA1Copy(t *testing.T) {
+	for _, c := range []api.Clock{nil, {}, {0}, {3, -4, math.MaxInt}, api.Clock{1, 2, 3}[:2]} {
+		if got := Copy(c); !slices.Equal(got, c) {
+			t.Errorf("Copy(%v) = %v", c, got)
+		}
+	}
+}
+
 // roomy has the entries, and spare room behind them that is marked.
 func roomy(entries ...int) api.Clock {
 	room := make(api.Clock, len(entries)+3)
@@ -259,6 +267,8 @@ func TestZ2(t *testing.T) {
 		{"Tick", func(a, _ api.Clock) api.Clock { return Tick(a, 1) }},
 		{"Tick of none", func(a, _ api.Clock) api.Clock { return Tick(a, 3) }},
 		{"Tick of nothing", func(a, _ api.Clock) api.Clock { return Tick(a[:0], 0) }},
+		{"Copy", func(a, _ api.Clock) api.Clock { return Copy(a) }},
+		{"Copy of nothing", func(a, _ api.Clock) api.Clock { return Copy(a[:0]) }},
 	} {
 		a, b := roomy(1, 2, 3), roomy(2, 1)
 		got := x.call(a, b)

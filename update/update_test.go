@@ -163,6 +163,50 @@ func TestB1Seq(t *testing.T) {
 	}
 }
 
+func TestB1SeenBy(t *testing.T) {
+	for _, x := range []struct {
+		name string
+		u    api.Update
+		c    api.Clock
+		want bool
+	}{
+		{"just so many", by(0, 3, 400), api.Clock{4, 0}, true},
+		{"more", by(0, 3, 400), api.Clock{5, 0}, true},
+		{"one fewer", by(0, 3, 400), api.Clock{3, 400}, false},
+		{"the other author's", by(1, 3, 400), api.Clock{0, 401}, true},
+		{"the other author's, one fewer", by(1, 3, 400), api.Clock{999, 400}, false},
+		{"the author's last", by(0, last-1), api.Clock{last}, true},
+		{"the clock has not that author", by(1, 3, 0), api.Clock{9}, false},
+		{"a clock without entries", by(0, -9), nil, false},
+		{"the clock's spare room", by(1, 3, 0), api.Clock{9, 9}[:1], false},
+		{"Seen has not that author", by(1, 3), api.Clock{9, 9}, false},
+		{"Seen without entries", by(0), api.Clock{9, 9}, false},
+		{"author below 0", by(-1, 3, 4), api.Clock{9, 9}, false},
+		{"greatest author", by(math.MaxInt, 3, 4), api.Clock{9, 9}, false},
+	} {
+		if got := SeenBy(x.u, x.c); got != x.want {
+			t.Errorf("%s: SeenBy(%v, %v) = %t, not %t", x.name, x.u, x.c, got, x.want)
+		}
+	}
+}
+
+func TestZ2Copy(t *testing.T) {
+	u := right()
+	u.Seen = roomy(u.Seen...)
+	got := Copy(u)
+	fill(u.Seen, 55)
+	if !reflect.DeepEqual(got, right()) {
+		t.Errorf("Copy(%v) = %v", right(), got)
+	}
+	fill(got.Seen, 66)
+	if slices.Contains(u.Seen[:cap(u.Seen)], 66) {
+		t.Error("what was copied changes with the copy")
+	}
+	if none := Copy(api.Update{Key: 1}); none.Key != 1 || len(none.Seen) != 0 {
+		t.Errorf("Copy of an update that saw nothing is %v", none)
+	}
+}
+
 // written are updates, and the bytes that stand for them.
 func written() []struct {
 	name string
