@@ -517,6 +517,23 @@ func TestZ2OwnMemory(t *testing.T) {
 	}
 }
 
+func TestCopy(t *testing.T) {
+	l := roomy()
+	got := Copy(l)
+	if !sameList(got, l) || len(Copy(nil)) > 0 {
+		t.Errorf("Copy(%v) = %v", l, got)
+	}
+	spoil(got)
+	if !reflect.DeepEqual(whole(l), whole(roomy())) {
+		t.Errorf("what is handed in changes with the copy: %v", whole(l))
+	}
+	got = Copy(l)
+	spoil(l)
+	if !sameList(got, roomy()) {
+		t.Errorf("the copy changes with what was handed in: %v", got)
+	}
+}
+
 // TestZ3 has nil, and lists without entries.
 func TestZ3(t *testing.T) {
 	for _, l := range [][]api.Update{nil, {}} {

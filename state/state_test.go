@@ -784,6 +784,22 @@ func TestZ2CellsApart(t *testing.T) {
 	}
 }
 
+func TestCopy(t *testing.T) {
+	s, l := roomy()
+	got := Copy(s)
+	if !sameState(got, s) || !isZero(Copy(api.State{})) {
+		t.Errorf("Copy(%v) = %v", s, got)
+	}
+	spoil(got)
+	checkUntouched(t, s, l)
+	got = Copy(s)
+	want, _ := roomy()
+	spoil(s)
+	if !sameState(got, want) {
+		t.Errorf("the copy changes with what was handed in: %v", got)
+	}
+}
+
 // TestZ3 has nil, and lists without entries.
 func TestZ3(t *testing.T) {
 	for _, s := range []api.State{both(api.Clock{0}, nil, nil), both(api.Clock{0}, []api.Live{}, []api.Tally{}), both(api.Clock{0}, nil, []api.Tally{})} {
